@@ -1,0 +1,1 @@
+"""Findhall: a house of texts to be searched."""
