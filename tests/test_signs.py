@@ -2,20 +2,11 @@ import unittest
 
 from findhall.errors import BadKey, BadNumber, BadText
 from findhall.signs import is_key, is_text, is_whole, need_key, need_number, need_text
+from handed import GREAT_NUMBER, Thing
 
 SMALL = "abcdefghijklmnopqrstuvwxyz0123456789"
 # Of the percent sign nothing is promised.
 PRINTED = [chr(number) for number in range(32, 127) if number != 37]
-GREAT_NUMBER = 10 ** 5000
-
-
-class Thing:
-    """A thing that lets nobody look at it."""
-
-    def fail(self, *others):
-        raise RuntimeError("this was looked at")
-
-    __eq__ = __lt__ = __len__ = __iter__ = __bool__ = __repr__ = __str__ = __hash__ = fail
 
 
 def things_but_texts_and_numbers():

@@ -4,11 +4,11 @@ import unittest
 
 from findhall.errors import BadText, BadWord
 from findhall.words import is_word, need_word, plain_words, words_in
+from handed import GREAT_NUMBER
 
 SMALL = "abcdefghijklmnopqrstuvwxyz0123456789"
 # Of the percent sign nothing is promised.
 PRINTED = [chr(number) for number in range(32, 127) if number != 37]
-GREAT_NUMBER = 10 ** 5000
 
 
 def things_but_texts():
