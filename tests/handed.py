@@ -1,7 +1,11 @@
-"""What the tests hand in where something else is wanted, and how they look at a refusal."""
+"""What several tests hand in, and how they look at refusals, at books and at questions."""
+import re
 import unittest
 
+from findhall.asks import Both, Either, Near, Not, Row, Start, Word
 from findhall.errors import HallError
+from findhall.rows import packed_row
+from findhall.walks import Walk
 
 # Python itself writes no number that is so great.
 GREAT_NUMBER = 10 ** 5000
@@ -31,9 +35,138 @@ def no_lists():
     ]
 
 
+def no_strs():
+    return [
+        None, True, False, 0, 1, -1, GREAT_NUMBER, 1.5, [], ["a"], ["a", "b"], (), ("a",), ("a", "b"), {}, {"a": "a"},
+        {"a"}, b"", b"a", object(), Thing(), len, str, range(3),
+    ]
+
+
+def no_words():
+    return no_strs() + [
+        "", " ", "A", "aB", "a b", " a", "a ", "a-b", "a*", '"a"', "a\n", "a\t", "~", "a" * 2001, "B" * 2000,
+    ]
+
+
+def looked_words(text):
+    """The words of a text by another way than the program's own, to be compared with it."""
+    return [word.lower() for word in re.findall("[A-Za-z0-9]+", text)]
+
+
+def looked_row(pairs, word):
+    """The row of a word by a look at every text, word by word."""
+    row = []
+    for number, (key, text) in enumerate(pairs):
+        places = tuple(place for place, one in enumerate(looked_words(text)) if one == word)
+        if places:
+            row.append((number, places))
+    return row
+
+
+def built(told):
+    """The question that is told so, made by the classes alone."""
+    name, *within = told
+    if name == "word":
+        return Word(*within)
+    if name == "start":
+        return Start(*within)
+    if name == "row":
+        return Row(*within)
+    if name == "near":
+        return Near(built(within[0]), built(within[1]), within[2])
+    made = [built(one) for one in within]
+    return Both(*made) if name == "both" else Either(*made) if name == "either" else Not(*made)
+
+
+def deep_of(told):
+    return 1 + max([deep_of(one) for one in beneath(told)], default=0)
+
+
+def many_of(told):
+    return 1 + sum(many_of(one) for one in beneath(told))
+
+
+def beneath(told):
+    return [] if told[0] in ("word", "start", "row") else [one for one in told[1:] if isinstance(one, tuple)]
+
+
+def chance_leaf(chance, words):
+    name = chance.choice(("word", "word", "start", "row"))
+    if name == "row":
+        return ("row", tuple(chance.choice(words) for turn in range(chance.choice((2, 2, 3, 8)))))
+    return (name, chance.choice(words))
+
+
+def chance_told(chance, words, deep):
+    """A told question, no deeper than that, with just these words in it."""
+    name = chance.choice(("word", "near", "both", "both", "either", "either", "not"))
+    if deep == 1 or name == "word":
+        return chance_leaf(chance, words)
+    if name == "near":
+        far = chance.choice((0, 1, 2, 3, 20))
+        return ("near", chance_leaf(chance, words), chance_leaf(chance, words), far)
+    if name == "not":
+        return ("not", chance_told(chance, words, deep - 1))
+    return (name, chance_told(chance, words, deep - 1), chance_told(chance, words, deep - 1))
+
+
+def in_nots(told, many):
+    for turn in range(many):
+        told = ("not", told)
+    return told
+
+
+def balanced(many, name="both"):
+    """So many words, half and half joined: 2 * many - 1 questions, as deep as need be alone."""
+    if many == 1:
+        return ("word", "a")
+    return (name, balanced((many + 1) // 2, name), balanced(many // 2, name))
+
+
 class RefusalCase(unittest.TestCase):
     def check_refused(self, refusal, call, *handed):
         with self.assertRaises(HallError) as caught:
             call(*handed)
         self.assertIs(type(caught.exception), refusal)
         self.assertIsInstance(caught.exception, ValueError)
+
+
+class BookCase(RefusalCase):
+    def check_list(self, told, wanted):
+        self.assertIs(type(told), list)
+        self.assertEqual(told, wanted)
+
+    def check_walk(self, walk, row):
+        self.assertIs(type(walk), Walk)
+        self.assertEqual(walk.rest(), row)
+        for pair in row:
+            self.assertEqual(walk.pair(), pair)
+            walk.step()
+        self.assertIs(walk.pair(), None)
+
+    def check_texts(self, book, pairs):
+        for number, (key, text) in enumerate(pairs):
+            self.assertEqual(book.key_of(number), key)
+            self.assertEqual(book.text_of(number), text)
+            self.assertEqual(book.size_of(number), len(looked_words(text)))
+            self.assertEqual(book.number_of(key), number)
+        for told in (book.many(), book.total()) + tuple(book.number_of(key) for key, text in pairs):
+            self.assertIs(type(told), int)
+        self.assertEqual(book.many(), len(pairs))
+        self.assertEqual(book.total(), sum(len(looked_words(text)) for key, text in pairs))
+
+    def check_row(self, book, pairs, word):
+        row = looked_row(pairs, word)
+        self.check_list(book.row_of(word), row)
+        self.check_list(book.parts_of(word), packed_row(row))
+        self.check_walk(book.walk_of(word), row)
+
+    def check_book(self, book, pairs, others=("zzz", "0", "and")):
+        """The book tells all that a look at all texts of the pairs, word by word, tells."""
+        self.check_texts(book, pairs)
+        words = sorted({word for key, text in pairs for word in looked_words(text)})
+        self.check_list(book.words(), words)
+        for word in words + list(others):
+            self.check_row(book, pairs, word)
+            for begin in {word, word[:1], word[:2], word[:-1] or "x", word[:1999] + "0"}:
+                self.check_list(book.starts(begin), [one for one in words if one.startswith(begin)])

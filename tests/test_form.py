@@ -30,6 +30,8 @@ DUNDERS = ("__init__", "__eq__", "__repr__", "__str__", "__len__", "__all__", "_
 BANNED_WORDS = re.compile(
     r"\b(type|typing|typing_extensions|enum|Enum|IntEnum|StrEnum|Flag|IntFlag|Generic|Protocol|ABC|ABCMeta|namedtuple"
     r"|NamedTuple|TypedDict|TYPE_CHECKING|abstractmethod)\b|dataclass|overload|contextmanager")
+WALKED = "zip enumerate reversed range items keys values".split()
+WALKERS = "list tuple dict sorted sum any all enumerate zip min max join".split()
 BANNED_NAMES = """
     register mro elements open input version_info with_traceback add_note format format_map
 """.split()
@@ -45,6 +47,11 @@ def parsed():
 
 def nodes(*kinds):
     return [(path, node) for path, tree in parsed() for node in ast.walk(tree) if isinstance(node, kinds)]
+
+
+def name_called(node):
+    called = node.func if isinstance(node, ast.Call) else None
+    return called.id if isinstance(called, ast.Name) else called.attr if isinstance(called, ast.Attribute) else None
 
 
 def names_bound(node):
@@ -162,6 +169,35 @@ class FormTest(unittest.TestCase):
             if isinstance(node, ast.Name) and hasattr(builtins, node.id):
                 own = node.id in OWN_OF_PYTHON or (path.name == "__main__.py" and node.id in ("print", "__name__"))
                 self.hold("L8", path, node, own)
+
+    def test_walked_at_once(self):
+        for path, tree in parsed():
+            walked = []
+            for node in ast.walk(tree):
+                if isinstance(node, (ast.For, ast.comprehension)):
+                    walked.append(node.iter)
+                elif name_called(node) in WALKERS:
+                    walked += node.args if name_called(node) == "zip" else node.args[:1]
+            for node in ast.walk(tree):
+                self.hold("L23", path, node, name_called(node) not in WALKED or node in walked)
+
+    def test_sets(self):
+        for path, tree in parsed():
+            beside = []
+            for node in ast.walk(tree):
+                if isinstance(node, ast.Compare):
+                    beside += [node.left] + node.comparators
+                elif name_called(node) in ("sorted", "len") and not node.keywords:
+                    beside += node.args
+            for node in ast.walk(tree):
+                made = isinstance(node, ast.Set) or name_called(node) in ("set", "frozenset")
+                self.hold("L24", path, node, not made or node in beside)
+
+    def test_what_stands_by_itself_is_a_call(self):
+        for path, tree in parsed():
+            for node in ast.walk(tree):
+                if isinstance(node, ast.Expr) and node not in tree.body[:1]:
+                    self.hold("L6", path, node, isinstance(node.value, ast.Call))
 
     def test_methods(self):
         own = {node.name for path, node in nodes(ast.FunctionDef)}
