@@ -3,51 +3,13 @@ import random
 import unittest
 
 from findhall.asks import Both, Either, Near, Not, Row, Start, Word
-from handed import built, chance_told
+from handed import built, chance_told, looked_holds, looked_spans
 
 A, B = ("word", "a"), ("word", "b")
 LEAVES = [
     A, ("word", "ab"), ("word", "z"), ("start", "a"), ("start", "ab"), ("start", "z"), ("row", ("a", "b")),
     ("row", ("a", "a")), ("row", ("a", "a", "a")), ("row", ("a", "b", "a")), ("row", ("b", "ab")),
 ]
-
-
-def pairs_of_spans(told, words):
-    one, other, far = told[1:]
-    for first in looked_spans(one, words):
-        for second in looked_spans(other, words):
-            ones, others = set(range(first[0], first[1] + 1)), set(range(second[0], second[1] + 1))
-            low, high = sorted((ones, others), key=min)
-            between = [place for place in range(len(words)) if max(low) < place < min(high)]
-            if not ones & others and len(between) <= far:
-                yield (min(ones | others), max(ones | others))
-
-
-def looked_spans(told, words):
-    """The spans by the words of the document, looked for at every place, to be compared with the program."""
-    name = told[0]
-    everywhere = [(begin, end) for begin in range(len(words)) for end in range(begin, len(words))]
-    if name == "word":
-        return [(begin, end) for begin, end in everywhere if words[begin:end + 1] == [told[1]]]
-    if name == "start":
-        return [(place, place) for place, word in enumerate(words) if word[:len(told[1])] == told[1]]
-    if name == "row":
-        return [(begin, end) for begin, end in everywhere if words[begin:end + 1] == list(told[1])]
-    if name == "near":
-        return sorted(set(pairs_of_spans(told, words)))
-    if name == "not":
-        return []
-    return sorted(set(looked_spans(told[1], words) + looked_spans(told[2], words)))
-
-
-def looked_holds(told, words):
-    if told[0] == "not":
-        return not looked_holds(told[1], words)
-    if told[0] == "both":
-        return all(looked_holds(one, words) for one in told[1:])
-    if told[0] == "either":
-        return any(looked_holds(one, words) for one in told[1:])
-    return looked_spans(told, words) != []
 
 
 class SpansCase(unittest.TestCase):
