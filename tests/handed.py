@@ -1,6 +1,7 @@
-"""What several tests hand in, and how they look at refusals, at books and at questions."""
+"""What several tests hand in, and how they look at refusals, at books, at questions and at houses."""
 import re
 import unittest
+from fractions import Fraction
 
 from findhall.asks import Both, Either, Near, Not, Row, Start, Word
 from findhall.errors import HallError
@@ -46,6 +47,14 @@ def no_words():
     return no_strs() + [
         "", " ", "A", "aB", "a b", " a", "a ", "a-b", "a*", '"a"', "a\n", "a\t", "~", "a" * 2001, "B" * 2000,
     ]
+
+
+def no_keys():
+    return no_strs() + ["", "a" * 13, "A", "aB", "a b", " a", "a ", "a-b", "a\n", "a\t", "~", "b" * 2000]
+
+
+def no_texts():
+    return no_strs() + ["\t", "a\tb", "a" * 2001, " " * 2001, "\n" * 2001]
 
 
 def looked_words(text):
@@ -161,6 +170,162 @@ def looked_holds(told, words):
     return looked_spans(told, words) != []
 
 
+def looked_leaves(told):
+    if told[0] in ("both", "either"):
+        return looked_leaves(told[1]) + looked_leaves(told[2])
+    return [] if told[0] == "not" else [told]
+
+
+def groups(places):
+    """Longest rows of neighbours among places, as spans."""
+    found = []
+    for place in sorted(places):
+        if place - 1 in places:
+            found[-1] = (found[-1][0], place)
+        else:
+            found.append((place, place))
+    return found
+
+
+def looked_line(text, window, marked):
+    """The line of the piece from word to word, those at the marked places within marks, looked at sign by sign."""
+    words = [match.span() for match in re.finditer("[A-Za-z0-9]+", text)]
+    opened = [words[first][0] for first, last in groups(marked)]
+    closed = [words[last][1] for first, last in groups(marked)]
+    line = "... " if window[0] > 0 else ""
+    for place in range(words[window[0]][0], words[window[1]][1] + 1):
+        line += "]" if place in closed else ""
+        line += "[" if place in opened else ""
+        if place < words[window[1]][1]:
+            line += {"[": r"\[", "]": r"\]", "\\": r"\\", "\n": r"\n"}.get(text[place], text[place])
+    return line + (" ..." if window[1] + 1 < len(words) else "")
+
+
+def looked_lines(text, spans, around, most):
+    size = len(looked_words(text))
+    marked = {place for begin, end in spans for place in range(begin, end + 1)}
+    near = {place for place in range(size) if any(abs(place - mark) <= around for mark in marked)}
+    return [
+        looked_line(text, (begin, end), {place for place in marked if begin <= place <= end})
+        for begin, end in groups(near)
+    ][:most]
+
+
+class PlainHouse:
+    """A house that looks through all its texts word by word, to be compared with the program."""
+
+    def __init__(self, shelves=()):
+        self.shelves = [list(shelf) for shelf in shelves]
+
+    def pairs(self):
+        return [pair for shelf in self.shelves for pair in shelf]
+
+    def put(self, key, text):
+        self.shelves.append([(key, text)])
+        while len(self.shelves) > 1 and len(self.shelves[-1]) >= len(self.shelves[-2]):
+            last = self.shelves.pop()
+            self.shelves[-1] += last
+
+    def take(self, key):
+        shelves = [[pair for pair in shelf if pair[0] != key] for shelf in self.shelves]
+        self.shelves = [shelf for shelf in shelves if shelf]
+
+    def pour(self):
+        self.shelves = [self.pairs()] if self.shelves else []
+
+    def found(self, told):
+        return sorted(key for key, text in self.pairs() if looked_holds(told, looked_words(text)))
+
+    def worth(self, told, key):
+        texts = {one: looked_words(text) for one, text in self.pairs()}
+        many, total, size = len(texts), sum(len(words) for words in texts.values()), len(texts[key])
+        worth = Fraction(0)
+        for leaf in looked_leaves(told):
+            counts = {one: len(looked_spans(leaf, words)) for one, words in texts.items()}
+            count, found = counts[key], sum(1 for one in counts.values() if one)
+            if count:
+                share = Fraction(2 * count * total, (count + 1) * total + size * many)
+                worth += share * Fraction(many + 1, found + 1)
+        return worth
+
+    def ranked(self, told):
+        rows = [(key, self.worth(told, key)) for key in self.found(told)]
+        return [(key, (worth.numerator, worth.denominator)) for key, worth in sorted(
+            rows, key=lambda row: (-row[1], row[0]))]
+
+    def pieces(self, key, told, around=3, most=3):
+        text = dict(self.pairs())[key]
+        return looked_lines(text, looked_spans(told, looked_words(text)), around, most)
+
+
+class PlainDesk:
+    """A desk over a plain house. It is given lines that were parted already."""
+
+    def __init__(self, shelves=()):
+        self.house = PlainHouse(shelves)
+        self.asked = None
+        self.place = 0
+
+    def next_rows(self):
+        lines = []
+        for key, (above, below) in self.house.ranked(self.asked)[self.place:self.place + 10]:
+            lines.append(f"{key} {above}" if below == 1 else f"{key} {above}/{below}")
+            lines += ["> " + line for line in self.house.pieces(key, self.asked)]
+            self.place += 1
+        return lines
+
+    def put(self, key, text):
+        if key in dict(self.house.pairs()):
+            return ["twice"]
+        self.house.put(key, text)
+        return ["done"]
+
+    def take(self, key):
+        if key not in dict(self.house.pairs()):
+            return ["no text"]
+        self.house.take(key)
+        return ["done"]
+
+    def show(self, key):
+        text = dict(self.house.pairs()).get(key)
+        return ["no text"] if text is None else [text.replace("\\", "\\\\").replace("\n", "\\n")]
+
+    def keys(self):
+        return sorted(dict(self.house.pairs())) or ["nothing"]
+
+    def books(self):
+        return [" ".join(str(len(shelf)) for shelf in self.house.shelves) or "nothing"]
+
+    def pour(self):
+        self.house.pour()
+        return ["done"]
+
+    def ask(self, told):
+        self.asked, self.place = told, 0
+        return [f"{len(self.house.found(told))} found"] + self.next_rows()
+
+    def more(self):
+        return ["no question"] if self.asked is None else self.next_rows() or ["no more"]
+
+
+def chance_line(chance):
+    """A line for a desk, and what is called for it at a plain one, a name and what is handed in."""
+    words = ("a", "b", "ab", "the", "cat")
+    name = chance.choice(
+        ("put", "put", "put", "put", "take", "show", "keys", "books", "pour", "ask", "ask", "more", "more", "more"))
+    key = "k" + str(chance.randrange(14))
+    if name == "put":
+        signs = (" ", ", ", "\n", " [", "] ", "\\")
+        text = "".join(chance.choice(words) + chance.choice(signs) for word in range(chance.choice((0, 1, 2, 5, 9))))
+        return "put " + key + " " + text.replace("\\", "\\\\").replace("\n", "\\n"), name, (key, text)
+    if name in ("take", "show"):
+        return name + " " + key, name, (key,)
+    if name == "ask":
+        told = chance_told(chance, words, chance.choice((1, 2, 3)))
+        return "ask " + built(told).written(), name, (told,)
+    return name, name, ()
+
+
 class RefusalCase(unittest.TestCase):
     def check_refused(self, refusal, call, *handed):
         with self.assertRaises(HallError) as caught:
@@ -208,3 +373,34 @@ class BookCase(RefusalCase):
             self.check_row(book, pairs, word)
             for begin in {word, word[:1], word[:2], word[:-1] or "x", word[:1999] + "0"}:
                 self.check_list(book.starts(begin), [one for one in words if one.startswith(begin)])
+
+
+class HouseCase(RefusalCase):
+    def check_house(self, house, plain):
+        """The house tells of its texts and its books what the plain one has."""
+        texts = dict(plain.pairs())
+        self.check_list(house.all_keys(), sorted(texts))
+        self.check_list(house.books(), [len(shelf) for shelf in plain.shelves])
+        self.check_list(house.shelves(), plain.shelves)
+        for shelf in house.shelves():
+            self.assertIs(type(shelf), list)
+            self.assertEqual({type(pair) for pair in shelf}, {tuple})
+        for key, text in texts.items():
+            self.assertIs(house.has(key), True)
+            self.assertEqual(house.text(key), text)
+        self.assertEqual((house.many(), type(house.many())), (len(texts), int))
+        total = sum(len(looked_words(text)) for text in texts.values())
+        self.assertEqual((house.total(), type(house.total())), (total, int))
+
+    def check_asked(self, house, plain, told):
+        """Whatever is asked is answered as a look at each text of the plain one does."""
+        ask = built(told)
+        ranked = plain.ranked(told)
+        self.check_list(house.found(ask), plain.found(told))
+        self.check_list(house.ranked(ask), ranked[:10])
+        self.check_list(house.ranked(ask, 0, len(ranked) + 1), ranked)
+        for key, worth in house.ranked(ask):
+            self.assertEqual([type(part) for part in worth], [int, int])
+        for key, text in plain.pairs():
+            self.check_list(house.pieces(key, ask), plain.pieces(key, told))
+        self.assertEqual(ask.told(), told)

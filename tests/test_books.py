@@ -4,7 +4,7 @@ import unittest
 
 from findhall.books import Book
 from findhall.errors import BadKey, BadNumber, BadText, BadWord, NoText, Twice
-from handed import GREAT_NUMBER, BookCase, Thing, no_strs, no_whole_numbers, no_words
+from handed import GREAT_NUMBER, BookCase, Thing, no_keys, no_texts, no_whole_numbers, no_words
 
 SOME_PAIRS = [
     ("b", "The cat, the dog - THE END"),
@@ -25,14 +25,6 @@ def chance_text(chance):
 def many_small_pairs():
     chance = random.Random(3)
     return [("t" + str(number), chance_text(chance)) for number in range(140)]
-
-
-def no_keys():
-    return no_strs() + ["", "a" * 13, "A", "aB", "a b", " a", "a ", "a-b", "a\n", "a\t", "~", "b" * 2000]
-
-
-def no_texts():
-    return no_strs() + ["\t", "a\tb", "a" * 2001, " " * 2001, "\n" * 2001]
 
 
 class MadeTest(BookCase):

@@ -170,6 +170,32 @@ class FormTest(unittest.TestCase):
                 own = node.id in OWN_OF_PYTHON or (path.name == "__main__.py" and node.id in ("print", "__name__"))
                 self.hold("L8", path, node, own)
 
+    def test_locals_are_called_like_no_class_and_no_import(self):
+        for path, tree in parsed():
+            taken = [node.name for node in tree.body if isinstance(node, ast.ClassDef)]
+            taken += [name.name for node in tree.body if isinstance(node, ast.ImportFrom) for name in node.names]
+            for node in ast.walk(tree):
+                if isinstance(node, (ast.Name, ast.arg)):
+                    self.hold("L15", path, node, not set(names_bound(node)) & set(taken))
+
+    def test_values_of_a_top_are_read_alone(self):
+        for path, tree in parsed():
+            kept = [node.targets[0].id for node in tree.body if isinstance(node, ast.Assign) and isinstance(
+                node.value, (ast.List, ast.Dict))]
+            read = []
+            for node in ast.walk(tree):
+                if isinstance(node, (ast.Subscript, ast.Attribute)):
+                    read.append(node.value)
+                elif isinstance(node, ast.Compare):
+                    read += node.comparators
+                elif isinstance(node, (ast.For, ast.comprehension)):
+                    read.append(node.iter)
+                elif name_called(node) in ("len", "list", "dict", "sorted"):
+                    read += node.args
+            for node in ast.walk(tree):
+                if isinstance(node, ast.Name) and node.id in kept and isinstance(node.ctx, ast.Load):
+                    self.hold("L15", path, node, node in read)
+
     def test_walked_at_once(self):
         for path, tree in parsed():
             walked = []

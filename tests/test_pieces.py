@@ -9,7 +9,7 @@ from findhall.errors import BadNumber, BadSpan, BadText
 from findhall.finding import spans_in
 from findhall.pieces import pieces_of, windows
 from findhall.words import words_in
-from handed import GREAT_NUMBER, RefusalCase, Thing, no_lists, no_strs, no_whole_numbers
+from handed import GREAT_NUMBER, RefusalCase, Thing, groups, no_lists, no_texts, no_whole_numbers
 
 WRONG_NUMBERS = no_whole_numbers() + [-1, -2, -200, -GREAT_NUMBER]
 TEXT = "  The cat, the dog\nand A-b: nine ten ELEVEN twelve (13) 14 15 sixteen! "
@@ -22,17 +22,6 @@ def no_spans(size):
     for thing in no_whole_numbers() + [-1, -size, size, size + 1, GREAT_NUMBER, -GREAT_NUMBER]:
         wrong += [(thing, 0), (0, thing), (thing, thing), (thing, size - 1)]
     return wrong + [(place + 1, place) for place in range(size)] + [(size - 1, 0)] * (size > 1)
-
-
-def groups(places):
-    """Longest rows of neighbours among places, as spans."""
-    found = []
-    for place in sorted(places):
-        if place - 1 in places:
-            found[-1] = (found[-1][0], place)
-        else:
-            found.append((place, place))
-    return found
 
 
 def looked_windows(size, spans, around):
@@ -305,11 +294,8 @@ class PiecesTest(PiecesCase):
 
 
 class RefusedTest(PiecesCase):
-    def no_texts(self):
-        return no_strs() + ["a" * 2001, " " * 2001, "a\tb", "\t"]
-
     def test_what_is_no_text(self):
-        for thing in self.no_texts():
+        for thing in no_texts():
             for spans in ([], [(0, 0)], [(9, 9)], None, [None], "", Thing()):
                 self.check_refused(BadText, pieces_of, thing, spans)
                 self.check_refused(BadText, pieces_of, thing, spans, -1)
